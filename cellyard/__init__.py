@@ -1,0 +1,1 @@
+"""Cellyard: processes in cells."""
