@@ -23,6 +23,12 @@ NODES_OUT = (
     ast.TryStar,
 )
 PLAIN_NAME = re.compile(r"[A-Za-z][A-Za-z0-9_]*")
+# L25, without the later ones, which the program has no need of.
+VALUE_METHODS = set(
+    "append clear copy count endswith extend find get index insert isalnum isalpha isdigit islower isspace isupper "
+    "items join keys ljust lower lstrip partition pop remove replace reverse rfind rjust rpartition rsplit rstrip "
+    "setdefault split splitlines startswith strip update upper values zfill bit_length add discard".split())
+WALKED_AT_ONCE = {"zip", "enumerate", "reversed", "range", "items", "keys", "values"}
 
 
 def sources():
@@ -37,6 +43,36 @@ def names_in(tree):
             name = getattr(node, field, None)
             if isinstance(name, str) and not isinstance(node, ast.alias):
                 yield name, getattr(node, "lineno", 0)
+
+
+def classes():
+    """Each class of the package."""
+    return [node for path, text in sources() for node in ast.parse(text).body if isinstance(node, ast.ClassDef)]
+
+
+def own_methods():
+    """The names of all methods of the package's classes."""
+    return {part.name for each in classes() for part in each.body if isinstance(part, ast.FunctionDef)}
+
+
+def own_values():
+    """The names of all values that are given to objects."""
+    return {
+        node.attr for path, text in sources() for node in ast.walk(ast.parse(text))
+        if isinstance(node, ast.Attribute) and isinstance(node.ctx, ast.Store)}
+
+
+def drawn_from():
+    """For each module of the package those that it draws from."""
+    return {
+        "cellyard." + path.stem: [node.module for node in ast.parse(text).body if isinstance(node, ast.ImportFrom)]
+        for path, text in sources()}
+
+
+def top_names(tree):
+    """The names that a file's top binds by defs, classes and values of its own."""
+    made = [node.name for node in tree.body if isinstance(node, (ast.FunctionDef, ast.ClassDef))]
+    return made + [target.id for node in tree.body if isinstance(node, ast.Assign) for target in node.targets]
 
 
 class TestLanguage(unittest.TestCase):
@@ -105,6 +141,66 @@ class TestLanguage(unittest.TestCase):
                     self.assertIsInstance(node.ctx, ast.Load, (path, node.lineno))
                 if isinstance(node, ast.arg):
                     self.assertFalse(hasattr(builtins, node.arg), (path, node.lineno))
+
+    def test_no_name_is_a_method_and_a_value(self):
+        self.assertEqual(own_methods() & own_values(), set())
+
+    def test_own_methods_and_values_are_called_like_none_of_pythons_own(self):
+        taken = {name for kind in (str, int, list, tuple, dict, set, frozenset, bytes) for name in dir(kind)}
+        self.assertEqual((own_methods() - OWN_METHODS | own_values()) & taken, set())
+
+    def test_what_is_asked_of_a_thing_is_known(self):
+        known = own_methods() | own_values() | VALUE_METHODS
+        for path, text in sources():
+            for node in ast.walk(ast.parse(text)):
+                if isinstance(node, ast.Attribute):
+                    self.assertIn(node.attr, known, (path, node.lineno))
+
+    def test_methods_of_one_name_take_the_same(self):
+        taken = {}
+        for each in classes():
+            for part in each.body:
+                if isinstance(part, ast.FunctionDef) and part.name not in OWN_METHODS:
+                    self.assertEqual(taken.setdefault(part.name, ast.dump(part.args)), ast.dump(part.args), part.name)
+
+    def test_names_are_drawn_from_the_file_that_defines_them(self):
+        tops = {"cellyard." + path.stem: top_names(ast.parse(text)) for path, text in sources()}
+        for path, text in sources():
+            drawn = [node for node in ast.parse(text).body if isinstance(node, ast.ImportFrom)]
+            names = [alias.name for node in drawn for alias in node.names]
+            for node in drawn:
+                self.assertLessEqual({alias.name for alias in node.names}, set(tops[node.module]), path)
+            bound = names + tops["cellyard." + path.stem]
+            self.assertEqual(sorted(bound), sorted(set(bound)), path)
+            asked = {node.id for node in ast.walk(ast.parse(text)) if isinstance(node, ast.Name)}
+            self.assertLessEqual(set(names), asked, path)
+
+    def test_no_files_draw_from_one_another(self):
+        left = drawn_from()
+        while left:
+            free = [name for name in left if not set(left[name]) & set(left)]
+            self.assertTrue(free, left)
+            for name in free:
+                del left[name]
+
+    def test_no_local_is_called_like_a_name_of_the_files_top(self):
+        for path, text in sources():
+            tree = ast.parse(text)
+            top = set(top_names(tree)) | {
+                alias.name for node in tree.body if isinstance(node, ast.ImportFrom) for alias in node.names}
+            for node in [part for row in tree.body if not isinstance(row, ast.Assign) for part in ast.walk(row)]:
+                if isinstance(node, ast.arg):
+                    self.assertNotIn(node.arg, top, (path, node.lineno))
+                if isinstance(node, ast.Name) and isinstance(node.ctx, ast.Store):
+                    self.assertNotIn(node.id, top, (path, node.lineno))
+
+    def test_what_is_walked_at_once_is_not_kept(self):
+        for path, text in sources():
+            for node in ast.walk(ast.parse(text)):
+                kept = getattr(node, "value", None) if isinstance(node, (ast.Assign, ast.Return)) else None
+                if isinstance(kept, ast.Call):
+                    name = getattr(kept.func, "id", getattr(kept.func, "attr", ""))
+                    self.assertNotIn(name, WALKED_AT_ONCE, (path, node.lineno))
 
 
 if __name__ == "__main__":
