@@ -77,7 +77,7 @@ class Over(CellError):
     """More is there than a new limit allows: `many` is how many."""
 
     def __init__(self, many):
-        CellError.__init__(self, f"the limit is below the {many} that are there")
+        CellError.__init__(self, "the limit is below what is there")
         self.many = many
 
 

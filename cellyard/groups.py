@@ -40,7 +40,11 @@ class Group:
 
 
 class Groups:
-    """All groups of a yard, with how many units and processes are in them."""
+    """All groups of a yard, with how many units and processes are in them.
+
+    In `by_name` each stands behind that in which it lies, as that was there when it was made, and stays till it is
+    no more.
+    """
 
     def __init__(self):
         self.by_name = {OUTERMOST: Group(OUTERMOST, None, 1)}
@@ -80,10 +84,20 @@ class Groups:
             raise Over(group.heads)
         group.put_caps(unit_cap, head_cap, turn_cap)
 
+    def names_within(self, name):
+        """A list of the group's name and those of all that lie in it, each behind that in which it lies."""
+        group = self.known(name)
+        return [other.name for other in self.by_name.values() if group in outwards(other)]
+
+    def has_inner(self, name):
+        """Whether a group lies in this one."""
+        group = self.known(name)
+        return any([other.outer == group for other in self.by_name.values()])
+
     def remove_group(self, name):
         """The group is no more."""
         group = self.known_inner(name)
-        if group.heads > 0 or any([other.outer == group for other in self.by_name.values()]):
+        if group.heads > 0 or self.has_inner(name):
             raise Held(f"something is in the group {name}")
         del self.by_name[name]
 
@@ -166,17 +180,26 @@ def passes(many, cap):
     return cap is not None and many > cap
 
 
+def is_heft(thing):
+    """Whether the thing is a weight."""
+    return is_within(thing, 1, MAX_WEIGHT)
+
+
 def check_heft(thing):
     """Refuse what is no weight."""
-    if not is_within(thing, 1, MAX_WEIGHT):
+    if not is_heft(thing):
         raise NoNumber(f"a weight is a whole number from 1 to {MAX_WEIGHT}")
+
+
+def is_cap(thing):
+    """Whether the thing is a limit, which is None where there is none."""
+    return thing is None or is_within(thing, 0, MAX_CAP)
 
 
 def check_caps(caps):
     """Refuse limits that are none."""
-    for cap in caps:
-        if cap is not None and not is_within(cap, 0, MAX_CAP):
-            raise NoNumber(f"a limit is None or a whole number from 0 to {MAX_CAP}")
+    if not all([is_cap(cap) for cap in caps]):
+        raise NoNumber(f"a limit is None or a whole number from 0 to {MAX_CAP}")
 
 
 def check_space_in(groups, heads, units):

@@ -23,3 +23,18 @@ def fraction(top, below):
     """The fraction top through below in lowest terms; top is not below 0, below is above 0."""
     divisor = greatest_divisor(top, below)
     return (top // divisor, below // divisor)
+
+
+def is_fraction(thing):
+    """Whether the thing is a fraction in lowest terms."""
+    if not isinstance(thing, tuple) or len(thing) != 2:
+        return False
+    top, below = thing
+    if not is_whole(top) or not is_whole(below) or top < 0 or below < 1:
+        return False
+    return greatest_divisor(top, below) == 1
+
+
+def plus(one, other):
+    """The sum of two fractions."""
+    return fraction(one[0] * other[1] + other[0] * one[1], one[1] * other[1])

@@ -23,9 +23,13 @@ class NumberRoom:
 
     def give_number(self, own):
         """The process has the next number here."""
-        self.number_by_own[own] = self.coming
-        self.own_by_number[self.coming] = own
+        self.put_number(own, self.coming)
         self.coming += 1
+
+    def put_number(self, own, number):
+        """The process has this number here."""
+        self.number_by_own[own] = number
+        self.own_by_number[number] = own
 
     def take_number(self, own):
         """The process has no number here any more, and nobody gets the one that it had."""
@@ -43,8 +47,8 @@ class MountRoom:
 class BoxRoom:
     """A room of boxes: `texts` has what each box bears by its name."""
 
-    def __init__(self):
-        self.texts = {}
+    def __init__(self, texts):
+        self.texts = dict(texts)
 
 
 class Seat:
@@ -64,7 +68,7 @@ class Rooms:
     """
 
     def __init__(self):
-        self.first = Seat(NumberRoom(None), MountRoom({}), BoxRoom())
+        self.first = Seat(NumberRoom(None), MountRoom({}), BoxRoom({}))
         self.seats = {}
 
     def settle_first(self, own):
@@ -76,8 +80,19 @@ class Rooms:
         seat = self.seats[elder]
         numbers = NumberRoom(seat.numbers) if "numbers" in fresh else seat.numbers
         mounts = MountRoom(seat.mounts.stores) if "mounts" in fresh else seat.mounts
-        boxes = BoxRoom() if "boxes" in fresh else seat.boxes
+        boxes = BoxRoom({}) if "boxes" in fresh else seat.boxes
         self.sit(own, Seat(numbers, mounts, boxes))
+
+    def settle_in_cell(self, own, store):
+        """The process is in rooms of its own, with the store mounted at () and nothing else."""
+        self.sit(own, Seat(NumberRoom(self.first.numbers), MountRoom({(): (store, False)}), BoxRoom({})))
+
+    def sit_as_told(self, own, seat, ways):
+        """The process has this seat, the next number in the outermost room, and those of the tuples (room, number)."""
+        self.seats[own] = seat
+        self.first.numbers.give_number(own)
+        for room, number in ways:
+            room.put_number(own, number)
 
     def sit(self, own, seat):
         """The process has this seat, and the next number in its room and in each in which that lies."""

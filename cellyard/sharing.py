@@ -12,15 +12,13 @@ MAX_MOST = 999
 def level(amount, wants):
     """What the unsated get for each unit of weight, a fraction; None where all get their mosts."""
     check(amount, wants)
-    if amount >= sum_of_mosts(wants):
-        return None
-    return level_of_short(amount, wants)
+    return level_of(amount, wants)
 
 
 def shares(amount, wants):
     """What each gets, a list of fractions in the order of the wants."""
-    reached = level(amount, wants)
-    return [share_at(reached, weight, most) for weight, most in wants]
+    check(amount, wants)
+    return parted((amount, 1), wants)
 
 
 def unshared(amount, wants):
@@ -55,6 +53,26 @@ def is_want(thing):
 def sum_of_mosts(wants):
     """All mosts together."""
     return sum([most for weight, most in wants])
+
+
+def parted(amount, wants):
+    """What each gets, in order, of an amount that is a fraction; wants may be more and higher than those of shares."""
+    top, below = amount
+    # In parts of one turn, so many to a turn as the fraction has below, the amount is a whole number.
+    in_parts = [(weight, most * below) for weight, most in wants]
+    reached = level_of(top, in_parts)
+    return [through(share_at(reached, weight, most), below) for weight, most in in_parts]
+
+
+def through(share, divisor):
+    """The fraction, divided by a whole number."""
+    top, below = share
+    return fraction(top, below * divisor)
+
+
+def level_of(amount, wants):
+    """The level of a whole amount; None where it is no less than all mosts together."""
+    return None if amount >= sum_of_mosts(wants) else level_of_short(amount, wants)
 
 
 def level_of_short(amount, wants):

@@ -1,6 +1,10 @@
 """What several test files need."""
 
+import unittest
+
+from cellyard.deeds import do_deed
 from cellyard.errors import CellError
+from cellyard.yards import Ground
 
 
 def nested(depth, innermost=1):
@@ -17,7 +21,7 @@ NO_WHOLES = [
     nested(6), nested(7), nested(3000), 1.0, 5.5, float("nan"), float("inf"), {}, {5: 5}, b"5",
 ]
 
-# Whole numbers that are far beyond every bound of the program.
+# Whole numbers that are far beyond every bound of the program, and have more figures than Python writes.
 FAR_WHOLES = [-(10 ** 5000), -(2 ** 64), 2 ** 64, 10 ** 5000]
 
 # Things of every kind that are no texts.
@@ -56,3 +60,80 @@ def refuses(test, error, do, *things, **named):
         do(*things, **named)
     test.assertIs(taken.exception.__class__, error)
     return taken.exception
+
+
+def labelled(rooms):
+    """Labels of rooms in the order in which they are met."""
+    labels = {}
+    for room in rooms:
+        labels.setdefault(room, len(labels))
+    return labels
+
+
+def chain(room):
+    """The rooms from the outermost one to this one."""
+    return [] if room is None else chain(room.outer) + [room]
+
+
+def seen(ground):
+    """All that a ground holds, in a form that is equal just where the grounds are alike."""
+    seats = [ground.rooms.first] + [ground.rooms.seats[own] for own in ground.processes.by_own]
+    numbers = labelled(room for seat in seats for room in chain(seat.numbers))
+    mounts = labelled(seat.mounts for seat in seats if seat.mounts is not None)
+    boxes = labelled(seat.boxes for seat in seats if seat.boxes is not None)
+    people = {}
+    for own, process in ground.processes.by_own.items():
+        seat = ground.rooms.seats[own]
+        ways = [(numbers[room], room.number_by_own[own]) for room in chain(seat.numbers)]
+        people[own] = (
+            process.elder, process.group, ways, mounts.get(seat.mounts), boxes.get(seat.boxes), process.heft,
+            process.units, process.want, process.got, process.has_ended, process.outcome)
+    return {
+        "groups": ground.groups.rows(),
+        "charges": {name: ground.groups.charges(name) for name in ground.groups.by_name},
+        "people": people,
+        "numbers": [(numbers.get(room.outer), room.coming) for room in numbers],
+        "mounts": [dict(room.stores) for room in mounts],
+        "boxes": [dict(room.texts) for room in boxes],
+        "rooms": ground.rooms.many_rooms(),
+        "stores": {name: dict(texts) for name, texts in ground.stores.texts_by_name.items()},
+        "cells": {name: ground.first_of_cell(name) for name in ground.cells},
+        "next": ground.processes.next_own,
+    }
+
+
+class GroundCase(unittest.TestCase):
+    """Tests by deeds that are done on a ground."""
+
+    def setUp(self):
+        self.ground = Ground()
+
+    def do(self, *deed):
+        return do_deed(self.ground, deed)
+
+    def done(self, *deeds):
+        """What the deeds tell, one behind the other."""
+        return [self.do(*deed) for deed in deeds]
+
+    def refused(self, error, *deed):
+        """The deed is refused by this very class, and nothing changes; told is the error."""
+        before = seen(self.ground)
+        told = refuses(self, error, self.do, *deed)
+        self.assertEqual(seen(self.ground), before, deed)
+        return told
+
+    def owns(self):
+        """The own numbers of all that go."""
+        return [process.own for process in self.ground.processes.all_going()]
+
+    def ended(self):
+        """The own numbers of all that ended and are not waited for."""
+        return [process.own for process in self.ground.processes.all_ended()]
+
+    def elders(self):
+        """The elders of all that there are, by own numbers."""
+        return {own: process.elder for own, process in self.ground.processes.by_own.items()}
+
+    def charges(self, name):
+        """How many units, and how many processes, the group has."""
+        return self.ground.groups.charges(name)

@@ -4,7 +4,7 @@ import unittest
 from fractions import Fraction
 from math import gcd
 
-from cellyard.numbers import fraction, greatest_divisor, is_whole, is_within
+from cellyard.numbers import fraction, greatest_divisor, is_fraction, is_whole, is_within, plus
 from helper import FAR_WHOLES, NO_WHOLES
 
 
@@ -45,6 +45,21 @@ class TestFractions(unittest.TestCase):
                 self.assertEqual(told, Fraction(top, below).as_integer_ratio())
                 self.assertIsInstance(told, tuple)
                 self.assertEqual(greatest_divisor(top, below), gcd(top, below))
+
+    def test_what_is_a_fraction(self):
+        for thing in [(0, 1), (1, 1), (1, 2), (7, 3), (10 ** 5000, 7)]:
+            self.assertIs(is_fraction(thing), True)
+        wrong = [(0, 2), (2, 2), (2, 4), (1, 0), (0, 0), (-1, 1), (1, -1), (-1, -1), (True, 1), (1, True), (1,), (1, 1, 1)]
+        others = [thing for thing in NO_WHOLES if thing != (1, 2)]
+        for thing in others + FAR_WHOLES + wrong + [[0, 1], (None, 1), ("1", 1), ((1,), 1), (1.0, 1), (1, [])]:
+            self.assertIs(is_fraction(thing), False)
+
+    def test_sums(self):
+        for top in range(0, 12):
+            for below in range(1, 12):
+                for other in [(0, 1), (1, 1), (5, 6), (1, 12)]:
+                    one = fraction(top, below)
+                    self.assertEqual(plus(one, other), (Fraction(*one) + Fraction(*other)).as_integer_ratio())
 
 
 if __name__ == "__main__":
