@@ -2,9 +2,13 @@
 
 import unittest
 
+from cellyard import watching
 from cellyard.deeds import do_deed
 from cellyard.errors import CellError
+from cellyard.histories import deeds_of
+from cellyard.world import Yard
 from cellyard.yards import Ground
+from model import FIELDS, Refused
 
 
 def nested(depth, innermost=1):
@@ -60,6 +64,17 @@ def refuses(test, error, do, *things, **named):
         do(*things, **named)
     test.assertIs(taken.exception.__class__, error)
     return taken.exception
+
+
+def outcome_of(do, *things):
+    """What is told, or by which class it is refused, and with what in its field; of the program or of the model."""
+    try:
+        return ("told", do(*things))
+    except CellError as error:
+        name = error.__class__.__name__
+        return ("refused", name, getattr(error, FIELDS[name]) if name in FIELDS else None)
+    except Refused as error:
+        return ("refused", error.name, error.field)
 
 
 def labelled(rooms):
@@ -137,3 +152,61 @@ class GroundCase(unittest.TestCase):
     def charges(self, name):
         """How many units, and how many processes, the group has."""
         return self.ground.groups.charges(name)
+
+
+OF_ONE = [
+    "elder_of", "group_of", "number_of", "seen_by", "holdings", "is_frozen", "mounts", "boxes",
+]
+OF_TWO = ["number_seen", "share_rooms"]
+OF_GROUP = ["charges", "turns_of", "wants_of"]
+
+
+def pictured(yard, name):
+    """The cell's picture, or the name of the class by which it is refused."""
+    try:
+        return yard.picture(name)
+    except CellError as error:
+        return error.__class__.__name__
+
+
+def files_read(yard, own):
+    """All files that the process may read, with what they bear."""
+    found = {}
+    for at, name, held_fast in watching.mounts(yard, own):
+        for rest, text in watching.files(yard, name):
+            if len(at + rest) <= 4:
+                found[at + rest] = watching.read(yard, own, at + rest)
+    return found
+
+
+def watched(yard):
+    """All that is told of a yard."""
+    owns = watching.processes(yard)
+    names = [row[0] for row in watching.groups(yard)]
+    told = {
+        (what, own): getattr(watching, what)(yard, own) for what in OF_ONE for own in owns}
+    told.update({
+        (what, own, other): getattr(watching, what)(yard, own, other)
+        for what in OF_TWO for own in owns for other in owns})
+    told.update({(what, name): getattr(watching, what)(yard, name) for what in OF_GROUP for name in names})
+    told.update({("files", name): watching.files(yard, name) for name in watching.stores(yard)})
+    told.update({("read", own): files_read(yard, own) for own in owns})
+    told.update({("picture", name): pictured(yard, name) for name, first in watching.cells(yard)})
+    told.update({what: getattr(watching, what)(yard) for what in [
+        "processes", "ended", "rooms", "groups", "stores", "cells"]})
+    told.update({"len": len(yard), "repr": repr(yard), "deeds": deeds_of(yard)})
+    return told
+
+
+class YardCase(unittest.TestCase):
+    """Tests by the methods of a yard."""
+
+    def setUp(self):
+        self.yard = Yard()
+
+    def refused(self, error, do, *things, **named):
+        """It is refused by this very class, and nothing changes; told is the error."""
+        before = watched(self.yard)
+        told = refuses(self, error, do, *things, **named)
+        self.assertEqual(watched(self.yard), before, things)
+        return told

@@ -5,12 +5,11 @@ import unittest
 from fractions import Fraction
 
 from cellyard.deeds import do_deed
-from cellyard.errors import CellError
 from cellyard.pictures import picture_of
 from cellyard.yards import Ground
 from drawing import WORDS, Drawer
-from helper import chain, labelled, seen
-from model import FIELDS, Model, Refused, as_pair
+from helper import chain, labelled, outcome_of, seen
+from model import Model, as_pair
 
 HISTORIES = 60
 DEEDS = 130
@@ -22,17 +21,6 @@ REFUSED = {
     "Taken", "Itself", "Frozen", "Capped", "Over", "TooFew", "Guarded", "NoSuch", "NoChild", "NotYet", "NoMount",
     "Fixed", "NoFile", "Held", "NoPicture",
 }
-
-
-def outcome_of(do, *things):
-    """What a deed tells, or by which class it is refused, and with what in its field."""
-    try:
-        return ("told", do(*things))
-    except CellError as error:
-        name = error.__class__.__name__
-        return ("refused", name, getattr(error, FIELDS[name]) if name in FIELDS else None)
-    except Refused as error:
-        return ("refused", error.name, error.field)
 
 
 def reckoned(model):
